@@ -1,0 +1,1 @@
+"""Breakback: whoever breaks the whole breaks the part."""
