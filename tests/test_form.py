@@ -13,6 +13,8 @@ BUILTINS = (
     "OverflowError RuntimeError NotImplementedError AttributeError StopIteration NotImplemented object"
 ).split()
 
+BARRED = "register mro elements open input law version_info with_traceback add_note eval exec id vars dir help".split()
+
 
 def trees():
     """The name, the text and the parsed text of each file of the package."""
@@ -36,6 +38,12 @@ def given_names(tree):
             yield node.arg
         elif isinstance(node, ast.alias):
             yield node.asname or node.name
+
+
+def imported(tree):
+    """The module and the name of each import of a file."""
+    return [(node.module, alias.name) for node in ast.walk(tree) if isinstance(node, ast.ImportFrom)
+            for alias in node.names]
 
 
 class Form(unittest.TestCase):
@@ -75,6 +83,50 @@ class Form(unittest.TestCase):
     def test_no_builtin_is_given_another_meaning(self):
         for name, _, tree in trees():
             self.assertEqual([given for given in given_names(tree) if given in BUILTINS], [], name)
+
+    def test_no_local_name_is_that_of_an_import_or_a_class(self):
+        for name, _, tree in trees():
+            taken = [other for _, other in imported(tree)]
+            taken += [node.name for node in ast.walk(tree) if isinstance(node, ast.ClassDef)]
+            given = [node.id for node in ast.walk(tree)
+                     if isinstance(node, ast.Name) and isinstance(node.ctx, ast.Store)]
+            given += [node.arg for node in ast.walk(tree) if isinstance(node, ast.arg)]
+            self.assertEqual(set(taken) & set(given), set(), name)
+
+    def test_each_import_names_the_file_that_defines_the_name(self):
+        defined = {f"breakback.{name[:-3]}": {node.name for node in tree.body if hasattr(node, "name")}
+                   | {target.id for node in tree.body if isinstance(node, ast.Assign) for target in node.targets}
+                   for name, _, tree in trees()}
+        for name, _, tree in trees():
+            for module, other in imported(tree):
+                if module in defined:
+                    self.assertIn(other, defined[module], name)
+
+    def test_no_two_files_import_from_each_other(self):
+        waiting = {f"breakback.{name[:-3]}": {module for module, _ in imported(tree)} for name, _, tree in trees()}
+        while waiting:
+            free = [name for name, needed in waiting.items() if not needed & set(waiting)]
+            self.assertNotEqual(free, [], waiting)
+            for name in free:
+                del waiting[name]
+
+    def test_lambdas_on_one_line_have_parameters_of_different_names(self):
+        for name, _, tree in trees():
+            seen = set()
+            for node in ast.walk(tree):
+                if isinstance(node, ast.Lambda):
+                    key = (node.lineno, tuple(arg.arg for arg in node.args.args))
+                    self.assertNotIn(key, seen, name)
+                    seen.add(key)
+
+    def test_words_that_stand_nowhere(self):
+        for name, text, tree in trees():
+            words = {node.id for node in ast.walk(tree) if isinstance(node, ast.Name)}
+            words |= {node.arg for node in ast.walk(tree) if isinstance(node, ast.arg)}
+            words |= {node.attr for node in ast.walk(tree) if isinstance(node, ast.Attribute)}
+            self.assertEqual(words & set(BARRED), set(), name)
+            kinds = (ast.Yield, ast.YieldFrom, ast.Global, ast.Await)
+            self.assertFalse([node for node in ast.walk(tree) if isinstance(node, kinds)], name)
 
     def test_no_floats_and_no_division_into_them(self):
         for name, _, tree in trees():

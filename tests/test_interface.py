@@ -18,11 +18,25 @@ FUNCTIONS = {
         "cut": ["block", "b"], "hardbits": ["block"], "row_of": ["block", "string"],
         "value_of": ["block", "key", "string"],
     },
+    "breakers": {
+        "check_breaker": ["breaker"], "is_plain": ["breaker"], "most_asks": ["breaker"], "read_breaker": ["text"],
+        "write_breaker": ["breaker"],
+    },
+    "moves": {"move": ["breaker", "past"]},
+    "games": {"check_game": ["game"], "play": ["game", "breaker", "choices"]},
+    "chances": {
+        "chance": ["game", "breaker", "most"], "ways": ["game", "breaker", "most"],
+        "advantage": ["block", "breaker", "most"], "add": ["first", "second"], "less": ["first", "second"],
+        "times": ["first", "second"], "fraction": ["numerator", "denominator"],
+    },
 }
 CLASSES = {
     "errors": ["BreakError", "BadBlock", "BadBreaker", "BadGame", "BadScheme", "BadChoice", "BadMessage", "TooMany",
                "BadText"],
+    "games": ["Play"],
 }
+# The parameters that are passed by keyword alone, with their default values.
+KEYWORDS = {"most": 300000}
 
 
 def defined(name, kind):
@@ -40,8 +54,12 @@ class Interface(unittest.TestCase):
                     signature = inspect.signature(getattr(importlib.import_module(f"breakback.{module}"), name))
                     self.assertEqual(list(signature.parameters), parameters)
                     for parameter in signature.parameters.values():
-                        self.assertIs(parameter.kind, inspect.Parameter.POSITIONAL_OR_KEYWORD)
-                        self.assertIs(parameter.default, inspect.Parameter.empty)
+                        if parameter.name in KEYWORDS:
+                            self.assertIs(parameter.kind, inspect.Parameter.KEYWORD_ONLY)
+                            self.assertEqual(parameter.default, KEYWORDS[parameter.name])
+                        else:
+                            self.assertIs(parameter.kind, inspect.Parameter.POSITIONAL_OR_KEYWORD)
+                            self.assertIs(parameter.default, inspect.Parameter.empty)
 
     def test_classes(self):
         for module, classes in CLASSES.items():
@@ -49,6 +67,10 @@ class Interface(unittest.TestCase):
                 with self.subTest(module=module, name=name):
                     self.assertIn(name, defined(module, ast.ClassDef))
                     self.assertIsInstance(getattr(importlib.import_module(f"breakback.{module}"), name), type)
+
+    def test_attributes_of_a_play(self):
+        found = importlib.import_module("breakback.games").play(("permutation", 1), ("say", ("1",)), [])
+        self.assertEqual(vars(found), {"outcome": 1, "said": "1", "draws": [], "asked": []})
 
 
 if __name__ == "__main__":
