@@ -24,6 +24,11 @@ def toss(*breakers):
     return ("toss", breakers)
 
 
+# The breakers that are asked to gain much: they look at each bit in turn.
+KEEN = (ONE, ZERO, say(""), say("11"), look(0, ONE, ZERO), look(1, ZERO, ONE), look(2, look(0, ZERO, ONE), ONE),
+        look(0, look(1, ONE, ZERO), look(1, ZERO, ONE)), ("say", (1,)), ("say", (0, 1)), toss(ZERO, ("say", (2,)), ONE))
+
+
 def deep(many, kind="ask"):
     """A plain breaker that is nested so many deep."""
     breaker = ONE

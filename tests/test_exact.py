@@ -9,12 +9,8 @@ from breakback.breakers import most_asks
 from breakback.chances import advantage, chance
 from breakback.errors import TooMany
 from tests import model
-from tests.sample_breakers import ONE, ZERO, all_different, ask, breakers, look, say, toss
+from tests.sample_breakers import KEEN, ONE, ZERO, all_different, ask, breakers, look, say, toss
 from tests.samples import function, generator, strings
-
-# The breakers that are asked to gain much: they look at each bit in turn.
-KEEN = (ONE, ZERO, say(""), say("11"), look(0, ONE, ZERO), look(1, ZERO, ONE), look(2, look(0, ZERO, ONE), ONE),
-        look(0, look(1, ONE, ZERO), look(1, ZERO, ONE)), ("say", (1,)), ("say", (0, 1)), toss(ZERO, ("say", (2,)), ONE))
 
 
 def of(game, breaker):

@@ -29,6 +29,15 @@ FUNCTIONS = {
         "advantage": ["block", "breaker", "most"], "add": ["first", "second"], "less": ["first", "second"],
         "times": ["first", "second"], "fraction": ["numerator", "denominator"],
     },
+    "schemes": {
+        "check_goal": ["goal", "block"], "built": ["scheme", "block"], "gain": ["goal", "block", "breaker", "most"],
+        "carried": ["goal", "block", "breaker"],
+        "check_carried": ["goal", "block", "breaker", "made", "number", "most"],
+        "inverter": ["goal", "block", "breaker"],
+    },
+    "best": {"best": ["block", "asks"]},
+    "press": {"chain": ["block", "message"], "collide": ["block", "first", "second"]},
+    "openings": {"double_openings": ["block"]},
 }
 CLASSES = {
     "errors": ["BreakError", "BadBlock", "BadBreaker", "BadGame", "BadScheme", "BadChoice", "BadMessage", "TooMany",
