@@ -32,7 +32,8 @@ def for_functions(name, whole, drawn, keen):
     if name == "tell":
         same = look(0, look(m, ONE, ZERO), look(m, ZERO, ONE))
         tried = [ask(first, KEEN[4]), ask(second, ask(first, same)), ("ask", (0,) * l, ask(second, look(m, ZERO, ONE))),
-                 ask(first, ask(first + "0", ("ask", (0,) * l, toss(same, KEEN[4])))), ask(second, look(0, say("10"), ONE))]
+                 ask(second, look(0, say("10"), ONE)),
+                 ask(first, ask(first + "0", ("ask", (0,) * l, toss(same, KEEN[4]))))]
         return tried[keen] + breakers((name, l, m), drawn, depth=4, asks=(l, l, l + 1), last=last, ways=2)
     if name == "marks":
         tried = [ask(first, ("say", ("1",) * l + parts)) for parts in itertools.product(("0", 0), repeat=m)]

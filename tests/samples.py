@@ -24,6 +24,10 @@ def function(n, l, m, name="any"):
     return ("function", n, l, m, tables)
 
 
+def every_generator(n, m):
+    return [("generator", n, m, rows) for rows in itertools.product(strings(m), repeat=2 ** n)]
+
+
 def staying(n):
     """A generator from n to n + 1 bits that leads each state to itself, with its last bit put out."""
     return ("generator", n, n + 1, tuple(seed + seed[-1] for seed in strings(n)))

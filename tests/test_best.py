@@ -12,8 +12,7 @@ from breakback.errors import BadBlock, BadChoice
 from breakback.schemes import built
 from tests.model_schemes import some_schemes
 from tests.sample_breakers import KEEN, MADE, ONE, ask, breakers, over, say, some_plain
-from tests.samples import function, generator, no_blocks, same_kinds, strings
-from tests.test_exact import every_generator
+from tests.samples import every_generator, function, generator, no_blocks, same_kinds, strings
 
 BLOCK = ("block",)
 FUNCTIONS = [function(n, l, m, name) for n in (1, 2) for l in (1, 2) for m in (1, 2) for name in range(2)]

@@ -67,7 +67,8 @@ class Pairs(Carried):
         inner = ("counter", 3, 4, 2, THREE)
         self.assertEqual(carried(("tell", ("counter", 4, scheme)), G24, THREE), (("tree", G24, 3, 4, inner), 7))
         inner = ("counter", 3, 3, 2, ("cut", 5, ("once", 5, TWO)))
-        self.assertEqual(carried(("once", ("cut", 5, ("counter", 3, scheme))), G24, TWO), (("tree", G24, 3, 3, inner), 12))
+        goal = ("once", ("cut", 5, ("counter", 3, scheme)))
+        self.assertEqual(carried(goal, G24, TWO), (("tree", G24, 3, 3, inner), 12))
 
     def test_layers_over_one_another(self):
         scheme = ("longer", 3, BLOCK)
@@ -105,7 +106,8 @@ class Pairs(Carried):
 
     def test_eight_deep(self):
         scheme = BLOCK
-        for name, size in (("tree", 2), ("counter", 3), ("cut", 2), ("tree", 3), ("counter", 8), ("cut", 2), ("longer", 20)):
+        for name, size in (("tree", 2), ("counter", 3), ("cut", 2), ("tree", 3), ("counter", 8), ("cut", 2),
+                           ("longer", 20)):
             scheme = (name, size, scheme)
         for goal in goals_over(scheme, G12):
             made, number = self.check(goal, G12, look(0, ONE, toss(ONE, ZERO)))
@@ -130,7 +132,8 @@ class Pairs(Carried):
 
     def test_breakers_of_texts(self):
         text = "(ask (0 1 1) (ask (b0 b1 0) (look 2 (say 1 1 1 b2 b3) (toss (say 0 0 0 b0 b1) (say)))))"
-        for goal in (("marks", ("tree", 3, BLOCK)), ("tell", ("tree", 3, ("cut", 4, ("longer", 3, ("cut", 3, BLOCK)))))):
+        for goal in (("marks", ("tree", 3, BLOCK)),
+                     ("tell", ("tree", 3, ("cut", 4, ("longer", 3, ("cut", 3, BLOCK)))))):
             breaker = read_breaker(text)
             made, number = self.check(goal, G24, breaker)
             self.assertEqual(carried(goal, G24, read_breaker(text)), (made, number))
@@ -155,24 +158,27 @@ class Order(unittest.TestCase):
                 with self.assertRaises(BadBlock):
                     check_carried(wrong, no_block, breaker, None, 1, most=1)
         for breaker in (none, ONE, None, over(MADE[0], ONE)):
-            for wrong in (no_goal, None, ("marks", BLOCK), ("opening", "0", BLOCK), ["tell", BLOCK], ("tell", ["block"])):
+            for wrong in (no_goal, None, ("marks", BLOCK), ("opening", "0", BLOCK), ["tell", BLOCK],
+                          ("tell", ["block"])):
                 with self.assertRaises(BadScheme):
                     carried(wrong, G12, breaker)
                 with self.assertRaises(BadScheme):
                     check_carried(wrong, G12, breaker, None, 1, most=1)
 
     def test_breakers_that_are_made_or_none(self):
-        for breaker in (("say", "1"), None, [], (), "say", 1, True, ["say", ()], ("toss", ()), ("look", 10000, ONE, ONE),
-                        deep(61), *[over(made, ONE) for made in MADE], over(MADE[0], None), ("longer", G12, 0, ONE),
-                        ("cut", 2, ONE), ("longer", G12, 1, ONE)):
-            for goal in (("tell", BLOCK), ("once", BLOCK), ("tell", ("longer", 2, BLOCK)), ("tell", ("tree", 1, BLOCK))):
+        for breaker in (("say", "1"), None, [], (), "say", 1, True, ["say", ()], ("toss", ()),
+                        ("look", 10000, ONE, ONE), deep(61), *[over(made, ONE) for made in MADE], over(MADE[0], None),
+                        ("longer", G12, 0, ONE), ("cut", 2, ONE), ("longer", G12, 1, ONE)):
+            for goal in (("tell", BLOCK), ("once", BLOCK), ("tell", ("longer", 2, BLOCK)),
+                         ("tell", ("tree", 1, BLOCK))):
                 with self.assertRaises(BadBreaker):
                     carried(goal, G12, breaker)
                 with self.assertRaises(BadBreaker):
                     check_carried(goal, G12, breaker, ONE, 1, most=1)
 
     def test_made_comes_behind_the_breaker_and_ahead_of_the_chances(self):
-        for made in (("say", "1"), None, (), [], ("longer", G12, 0, ONE), ("cut", 2, None), ("cut", True, ONE), deep(61)):
+        for made in (("say", "1"), None, (), [], ("longer", G12, 0, ONE), ("cut", 2, None), ("cut", True, ONE),
+                     deep(61)):
             with self.assertRaises(BadBreaker):
                 check_carried(("tell", BLOCK), G12, ONE, made, 1, most=1)
             with self.assertRaises(BadBreaker):

@@ -10,7 +10,7 @@ from breakback.chances import advantage, chance
 from breakback.errors import TooMany
 from tests import model
 from tests.sample_breakers import KEEN, ONE, ZERO, all_different, ask, breakers, look, say, toss
-from tests.samples import function, generator, strings
+from tests.samples import every_generator, function, generator, strings
 
 
 def of(game, breaker):
@@ -19,10 +19,6 @@ def of(game, breaker):
 
 def gained(block, breaker):
     return Fraction(*advantage(block, breaker))
-
-
-def every_generator(n, m):
-    return [("generator", n, m, rows) for rows in itertools.product(strings(m), repeat=2 ** n)]
 
 
 class Exact(unittest.TestCase):

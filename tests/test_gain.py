@@ -11,7 +11,7 @@ from breakback.schemes import check_carried, gain
 from tests.model_schemes import gain_and_ways, games_of
 from tests.sample_attacks import SMALL, attacks
 from tests.sample_breakers import MADE, ONE, ZERO, ask, look, over, say, toss
-from tests.samples import function, generator
+from tests.samples import generator
 
 BLOCK = ("block",)
 MANY = toss(*[ONE, ZERO] * 32)

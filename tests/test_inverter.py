@@ -54,7 +54,7 @@ def parity(n, at=0, odd=False):
 
 class Made(unittest.TestCase):
     def test_the_tuple(self):
-        for block in [*one_to_one(1), *one_to_one(2)[::5], all_different(3, 3), all_different(4, 4), all_different(5, 5)]:
+        for block in [*one_to_one(1), *one_to_one(2)[::5], *[all_different(n, n) for n in (3, 4, 5)]]:
             n, whole = block[1], hardbits(block)
             for scheme in (BLOCK, ("cut", n, BLOCK), ("longer", 3, BLOCK), ("longer", 2, ("longer", 1, BLOCK)),
                            ("cut", 2, ("longer", 5, BLOCK))):
@@ -82,7 +82,8 @@ class Made(unittest.TestCase):
             self.assertEqual(inverter(goal, block, breaker), ("hard", 2, ("bit", carry(goal, whole, breaker)[0])))
 
     def test_by_name(self):
-        self.assertEqual(inverter(breaker=ONE, block=all_different(2, 2), goal=("tell", BLOCK)), ("hard", 2, ("bit", ONE)))
+        made = inverter(breaker=ONE, block=all_different(2, 2), goal=("tell", BLOCK))
+        self.assertEqual(made, ("hard", 2, ("bit", ONE)))
 
 
 class Bound(unittest.TestCase):
@@ -111,14 +112,23 @@ class Bound(unittest.TestCase):
     def test_tables_from_one_bit(self):
         found = self.check_all(one_to_one(1), (
             BLOCK, ("cut", 2, BLOCK), ("longer", 1, BLOCK), ("longer", 2, BLOCK), ("cut", 1, ("longer", 3, BLOCK)),
-            ("longer", 1, ("longer", 1, BLOCK)), ("tree", 1, ("longer", 2, BLOCK))), 10000)
+            ("longer", 1, ("longer", 1, BLOCK)), ("tree", 1, ("longer", 2, BLOCK))), 4000)
         self.assertGreater(found.count(True), 60)
         self.assertGreater(len(found), 3 * found.count(None))
 
     def test_tables_from_two_bits(self):
-        found = self.check_all(one_to_one(2)[::6], (BLOCK, ("longer", 1, BLOCK), ("cut", 3, BLOCK)), 17000, 1,
+        found = self.check_all(one_to_one(2)[::12], (BLOCK, ("longer", 1, BLOCK), ("cut", 3, BLOCK)), 3000, 1,
                                slice(None, None, 3))
-        self.assertGreater(found.count(True), 14)
+        for block in one_to_one(2)[::5]:
+            # Breakers that know a half of the table or all of it, some of which say something else at times.
+            known = knowing(block)
+            for breaker in (look(0, known, ZERO), look(1, ONE, known), look(3, known, ("say", (4,))),
+                            look(4, known, ONE)):
+                found.append(self.check(("tell", BLOCK), block, breaker, 3000))
+            found.append(self.check(("tell", BLOCK), block, toss(known, ONE), 20000))
+            found.append(self.check(("once", BLOCK), block, ask("0000000001", look(0, known, ONE)), 20000))
+            found.append(self.check(("opening", "00001", BLOCK), block, look(1, ZERO, known), 20000))
+        self.assertGreater(found.count(True), 35)
 
     def test_breakers_that_know_the_table(self):
         for block in one_to_one(1) + one_to_one(2)[::3]:
@@ -128,6 +138,12 @@ class Bound(unittest.TestCase):
                 goal, breaker = ("tell", scheme), knowing(block, turn)
                 self.assertEqual(gain(goal, whole, breaker), (1, 2))
                 self.assertEqual(carried(goal, whole, breaker)[1], 1)
+                self.assertEqual(chance(("inverse", block), inverter(goal, block, breaker)), (1, 1))
+            # To turn the last bit round is to turn the right parity into the other one.
+            length, last = whole[2], "0" * (whole[2] - 1) + "1"
+            for goal, breaker in ((("once", BLOCK), ask("0" * length + last, knowing(block))),
+                                  (("opening", last, BLOCK), knowing(block))):
+                self.assertEqual(gain(goal, whole, breaker), (-1, 1))
                 self.assertEqual(chance(("inverse", block), inverter(goal, block, breaker)), (1, 1))
 
     def test_who_knows_the_table_inverts_it_in_every_play(self):
@@ -169,7 +185,8 @@ class WrongOnes(unittest.TestCase):
                 self.refused(all_different(n, m) if m > n else generator(n, m))
 
     def test_n_is_at_most_5(self):
-        self.assertEqual(inverter(("tell", BLOCK), ("generator", 5, 5, tuple(strings(5))), ONE), ("hard", 5, ("bit", ONE)))
+        largest = ("generator", 5, 5, tuple(strings(5)))
+        self.assertEqual(inverter(("tell", BLOCK), largest, ONE), ("hard", 5, ("bit", ONE)))
         for n in (6, 7, 10):
             self.refused(("generator", n, n, tuple(strings(n))))
 
@@ -181,8 +198,8 @@ class WrongOnes(unittest.TestCase):
 
     def test_then_the_goal_over_its_hard_bits_then_the_breaker(self):
         block = all_different(2, 2)
-        for goal in (("marks", BLOCK), ("tell", ("cut", 6, BLOCK)), ("opening", "00", BLOCK), ("tell", ("tree", 1, BLOCK)),
-                     None, BLOCK, ["tell", BLOCK], ("tell", ("counter", 1, BLOCK))):
+        for goal in (("marks", BLOCK), ("tell", ("cut", 6, BLOCK)), ("opening", "00", BLOCK), None, BLOCK,
+                     ("tell", ("tree", 1, BLOCK)), ["tell", BLOCK], ("tell", ("counter", 1, BLOCK))):
             for breaker in (ONE, None, over(MADE[0], ONE)):
                 with self.assertRaises(BadScheme):
                     inverter(goal, block, breaker)

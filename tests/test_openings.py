@@ -6,8 +6,7 @@ import unittest
 
 from breakback.errors import BadBlock, BreakError
 from breakback.openings import double_openings
-from tests.samples import function, generator, no_blocks, same_kinds, strings
-from tests.test_exact import every_generator
+from tests.samples import every_generator, function, generator, no_blocks, same_kinds, strings
 
 
 def differ(first, second):

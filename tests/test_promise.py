@@ -15,8 +15,7 @@ from breakback.schemes import carried, gain
 from tests.model_schemes import gain_and_ways, table_of
 from tests.sample_attacks import SMALL, attacks
 from tests.sample_breakers import ONE, ZERO, ask, look, say, some_plain, toss
-from tests.samples import function, generator, strings
-from tests.test_exact import every_generator
+from tests.samples import every_generator, function, generator, strings
 
 BLOCK = ("block",)
 

@@ -151,18 +151,20 @@ class NoSchemes(Schemes):
 
     def test_each_place_bent(self):
         for scheme, block in (
-                (BLOCK, generator(1, 2)), (("longer", 3, BLOCK), generator(2, 3)), (("tree", 2, BLOCK), generator(2, 4)),
-                (("counter", 2, BLOCK), function(2, 1, 2)), (("cut", 2, BLOCK), generator(2, 3)),
+                (BLOCK, generator(1, 2)), (("longer", 3, BLOCK), generator(2, 3)),
+                (("tree", 2, BLOCK), generator(2, 4)), (("counter", 2, BLOCK), function(2, 1, 2)),
+                (("cut", 2, BLOCK), generator(2, 3)),
                 (nest((("longer", 1), ("tree", 2), ("counter", 4), ("cut", 3))), generator(1, 2))):
             fit, other = self.check_all([(bent, block) for bent in bends(scheme)])
             self.assertGreater(other, 40)
 
     def test_parts_left_out_doubled_and_moved(self):
         block = generator(1, 2)
-        for value in (("longer", BLOCK), ("longer", 1), ("longer",), ("longer", 1, 1, BLOCK), ("longer", 1, BLOCK, BLOCK),
-                      ("longer", BLOCK, 1), (1, "longer", BLOCK), (BLOCK,), (BLOCK, BLOCK), ("block", "block"),
-                      ("block", BLOCK), ("block", 1, BLOCK), ["block"], ["longer", 1, BLOCK], ("longer", 1, ["block"]),
-                      ("longer", 1, "block"), ("longer", 1, ()), ("longer", 1, None), "block", "longer"):
+        for value in (("longer", BLOCK), ("longer", 1), ("longer",), ("longer", 1, 1, BLOCK),
+                      ("longer", 1, BLOCK, BLOCK), ("longer", BLOCK, 1), (1, "longer", BLOCK), (BLOCK,),
+                      (BLOCK, BLOCK), ("block", "block"), ("block", BLOCK), ("block", 1, BLOCK), ["block"],
+                      ["longer", 1, BLOCK], ("longer", 1, ["block"]), ("longer", 1, "block"),
+                      ("longer", 1, ()), ("longer", 1, None), "block", "longer"):
             self.refused(value, block)
 
     def test_very_deep_values(self):

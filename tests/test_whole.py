@@ -27,7 +27,8 @@ CALLS = {
     "check_breaker": [(PLAIN,), (over(MADE[0], PLAIN),)], "is_plain": [(PLAIN,), (over(MADE[1], PLAIN),)],
     "most_asks": [(MARKER,)], "read_breaker": [("(toss (say) (say 1 b7))",)], "write_breaker": [(MARKER,)],
     "move": [(PLAIN, ["01"]), (PLAIN, ("10", 1)), (over(MADE[0], PLAIN), ["011", 2, 1])],
-    "check_game": [(("swaps", 2, 3),)], "play": [(("next", G, True), PLAIN, [1, 0]), (("permutation", 2), MARKER, (3,))],
+    "check_game": [(("swaps", 2, 3),)],
+    "play": [(("next", G, True), PLAIN, [1, 0]), (("permutation", 2), MARKER, (3,))],
     "chance": [(("once", G, True, 1), ask("0011", PLAIN)), (("permutation", 2), MARKER, 4)],
     "ways": [(("generator", G, False), PLAIN), (("generator", G, False), PLAIN, 10)],
     "advantage": [(G, PLAIN), (F, ask("0", PLAIN)), (G, over(("longer", G, 2), PLAIN), 100)],
@@ -111,7 +112,8 @@ class Checks(unittest.TestCase):
         wrong = [value for at, value in enumerate(no_blocks()) if at % 97 == 0]
         for _, name, asked, parameters in interface():
             if "block" in parameters:
-                for value in (None, True, (), ("generator", 1, 2, ("01", "1")), list(G), ("generator", True, 2, G[3]), *wrong):
+                for value in (None, True, (), ("generator", 1, 2, ("01", "1")), list(G), ("generator", True, 2, G[3]),
+                              *wrong):
                     for other in (None, 7, ("say", "1")):
                         handed = {one: value if one == "block" else other for one in parameters if one not in KEYWORDS}
                         with self.subTest(name=name, handed=handed), self.assertRaises(BadBlock):
